@@ -49,7 +49,7 @@ func TestBestErrors(t *testing.T) {
 	}{
 		{"no building", api.Building{}, theSystem(), api.ErrName, api.ErrName},
 		{"no system", square(), api.System{}, api.ErrShape, api.ErrShape},
-		{"a clash", square(), api.System{Bays: []int{1}, Width: 1, Lift: 5000}, api.ErrRange, api.ErrRange},
+		{"a low house", square(), api.System{Bays: []int{1}, Width: 1, Lift: 5000}, api.ErrRange, api.ErrRange},
 		{"runs of 4000 units", house(4500, 0, 0, 3998, 0, 3998, 400, 0, 400), thin, api.OK, api.OK},
 		{"a run of 4001 units with both corners", house(4500, 0, 0, 3999, 0, 3999, 400, 0, 400), thin, api.ErrLarge, api.ErrLarge},
 		{"the same of another facade", house(4500, 0, 0, 400, 0, 400, 3999, 0, 3999), thin, api.ErrLarge, api.ErrLarge},
