@@ -1,10 +1,13 @@
 package building
 
-import "putlog/api"
+import (
+	"putlog/api"
+	"putlog/spelling"
+)
 
 // Check accepts what is a building.
 func Check(b api.Building) api.Errno {
-	if !isName(b.Name) {
+	if !spelling.IsName(b.Name) {
 		return api.ErrName
 	}
 	if len(b.Storeys) < 1 || len(b.Storeys) > api.MaxStoreys || len(b.Openings) > api.MaxOpenings || len(b.Boxes) > api.MaxBoxes {
@@ -56,23 +59,6 @@ func Volume(b api.Building) (int, api.Errno) {
 	}
 	return sum, api.OK
 }
-
-// isName reports whether s is a name.
-func isName(s string) bool {
-	if len(s) < 1 || len(s) > api.MaxName || !isLetter(s[0]) {
-		return false
-	}
-	for i := range len(s) {
-		if !isLetter(s[i]) && !isDigit(s[i]) && s[i] != '-' {
-			return false
-		}
-	}
-	return true
-}
-
-func isLetter(c byte) bool { return 'a' <= c && c <= 'z' || 'A' <= c && c <= 'Z' }
-
-func isDigit(c byte) bool { return '0' <= c && c <= '9' }
 
 // storeyError is the first error of storey i, where those below have none.
 func storeyError(l []api.Storey, i int) api.Errno {

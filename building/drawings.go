@@ -5,7 +5,11 @@ import (
 	"strings"
 
 	"putlog/api"
+	"putlog/spelling"
 )
+
+// maxDigits is the number of digits that a number in a drawing may have.
+const maxDigits = 9
 
 // Print returns the drawing of a building.
 func Print(b api.Building) (string, api.Errno) {
@@ -152,27 +156,10 @@ func readNumbers(words []string, places ...*int) bool {
 		return false
 	}
 	for i, w := range words {
-		if !isNumber(w) {
+		if !spelling.IsNumber(w, maxDigits) {
 			return false
 		}
 		*places[i], _ = strconv.Atoi(w)
-	}
-	return true
-}
-
-// isNumber reports whether a word is a number of a drawing.
-func isNumber(word string) bool {
-	digits, negative := strings.CutPrefix(word, "-")
-	if digits == "0" {
-		return !negative
-	}
-	if len(digits) < 1 || len(digits) > 9 || digits[0] == '0' {
-		return false
-	}
-	for i := range len(digits) {
-		if !isDigit(digits[i]) {
-			return false
-		}
 	}
 	return true
 }

@@ -4,6 +4,7 @@ import (
 	"slices"
 
 	"putlog/api"
+	"putlog/spelling"
 )
 
 // CheckCatalogue accepts what is a catalogue.
@@ -102,7 +103,7 @@ func pairing(c api.Catalogue) pairs {
 func partError(l []api.Part, i int) api.Errno {
 	p := l[i]
 	switch {
-	case !isName(p.Name):
+	case !spelling.IsName(p.Name):
 		return api.ErrName
 	case slices.ContainsFunc(l[:i], func(q api.Part) bool { return q.Name == p.Name }):
 		return api.ErrExists
@@ -134,20 +135,3 @@ func within(low, high int, numbers ...int) bool {
 	}
 	return true
 }
-
-// isName reports whether s is a name.
-func isName(s string) bool {
-	if len(s) < 1 || len(s) > api.MaxName || !isLetter(s[0]) {
-		return false
-	}
-	for i := range len(s) {
-		if !isLetter(s[i]) && !isDigit(s[i]) && s[i] != '-' {
-			return false
-		}
-	}
-	return true
-}
-
-func isLetter(c byte) bool { return 'a' <= c && c <= 'z' || 'A' <= c && c <= 'Z' }
-
-func isDigit(c byte) bool { return '0' <= c && c <= '9' }

@@ -5,6 +5,7 @@ import (
 	"strings"
 
 	"putlog/api"
+	"putlog/spelling"
 )
 
 // maxDigits is the number of digits that a number in a text may have.
@@ -62,7 +63,7 @@ func readLine(s *api.Scaffold, l string) bool {
 	}
 	var numbers [3]int
 	for i, w := range words[1:] {
-		if !isNumber(w) {
+		if !spelling.IsNumber(w, maxDigits) {
 			return false
 		}
 		numbers[i], _ = strconv.Atoi(w)
@@ -74,23 +75,6 @@ func readLine(s *api.Scaffold, l string) bool {
 		s.Members = append(s.Members, api.Member{Kind: numbers[0], A: numbers[1], B: numbers[2]})
 	default:
 		return false
-	}
-	return true
-}
-
-// isNumber reports whether a word is a number of a text.
-func isNumber(word string) bool {
-	digits, negative := strings.CutPrefix(word, "-")
-	if digits == "0" {
-		return !negative
-	}
-	if len(digits) < 1 || len(digits) > maxDigits || digits[0] == '0' {
-		return false
-	}
-	for i := range len(digits) {
-		if !isDigit(digits[i]) {
-			return false
-		}
 	}
 	return true
 }
